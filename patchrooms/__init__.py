@@ -1,0 +1,1 @@
+"""Patchrooms: rooms of numbers laid over small orders."""

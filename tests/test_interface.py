@@ -1,0 +1,133 @@
+"""[2]: names and arguments of the interface, nothing changed, kinds of values returned."""
+
+import importlib
+import inspect
+import unittest
+
+from tests import support
+
+INTERFACE = {
+    "tables": ("times_table(prime, table, column)", "behind_table(prime, one, other, size)",
+               "reduced(prime, columns, size)", "kernel(prime, table, size)", "image(prime, table, size)",
+               "rank(prime, table)", "solved(prime, table, size, column)", "turned_back(prime, table)"),
+    "lots": ("parts_of(prime, basis, column)", "rest_of(prime, basis, column, size)", "within(prime, one, other)",
+             "meet(prime, one, other, size)", "join(prime, one, other, size)"),
+    "orders": ("need_order(value)", "order_of(n, pairs)", "covers_of(order)", "upside_down(order)",
+               "part_order(order, spots)", "rows(order, k)", "height(order)", "up_of(order, x)", "down_of(order, x)",
+               "is_up(order, spots)", "ups(order)", "up_hull(order, spots)"),
+    "leadings": ("need_leading(one, other, value)", "product_order(one, other)", "beside_order(one, other)",
+                 "rows_order(order)", "loose_spots(order)", "bared(order)", "is_tied(order)", "pieces(order)",
+                 "bared_leading(order)", "last_spots(order)"),
+    "patches": ("patch_breach(value)", "need_patch(value)", "level_patch(prime, order, size)",
+                "lone_patch(prime, order, x)", "standing(prime, order, x)", "springing(prime, order, x)",
+                "lead(patch, x, y)", "cut_patch(patch, spots)", "size_in_all(patch)"),
+    "tellings": ("tellings(patch, spots)", "cut_telling(patch, spots, fewer, telling)",
+                 "glued(patch, one, other, first, second)"),
+    "maps": ("need_map(one, other, value)", "still_map(patch)", "behind_map(one, other, third, first, second)",
+             "map_space(one, other)", "maps_size(one, other)", "kernel_patch(one, other, led)",
+             "image_patch(one, other, led)", "rest_patch(one, other, led)", "kernel_map(one, other, led)",
+             "image_maps(one, other, led)", "rest_map(one, other, led)",
+             "is_exact(one, other, third, first, second)"),
+    "splits": ("is_same(one, other)", "same_map(one, other)", "unsplit_sizes(patch)", "unsplit_patches(patch)",
+               "split_map(patch, parts)"),
+    "sums": ("sum_patch(one, other)", "mixed_patch(one, other)", "maps_patch(one, other)", "outer_patch(one, other)",
+             "beside_patch(one, other)")}
+
+CHAIN = (3, ((0, 1), (0, 2), (1, 2)))
+PATCH = (5, CHAIN, (1, 2, 1), (((2,), (3,)), ((1,),), ((1, 3),)))
+LEVEL = (5, CHAIN, (1, 1, 1), (((1,),), ((1,),), ((1,),)))
+LED = (((1,),), ((2,), (3,)), ((1,),))
+STILL = (((1,),), ((1, 0), (0, 1)), ((1,),))
+TWO = (2, ((0, 1),))
+SHORT = (5, TWO, (1, 2), (((2,), (3,)),))
+
+# For each function arguments, each of its own worth, so that none can stand for another one.
+CALLS = {
+    "times_table": (5, ((1, 2, 3), (4, 0, 1)), (1, 1, 4)), "behind_table": (5, ((1, 2),), ((3,), (4,)), 2),
+    "reduced": (5, ((2, 4, 1), (1, 2, 0)), 3), "kernel": (5, ((1, 2, 3),), 3), "image": (5, ((1, 2, 3), (2, 4, 1)), 3),
+    "rank": (5, ((1, 2, 3), (2, 4, 1))), "solved": (5, ((1, 2, 3),), 3, (2,)), "turned_back": (7, ((1, 2), (3, 4))),
+    "parts_of": (5, ((1, 2, 0, 4), (0, 0, 1, 3)), (2, 4, 3, 2)),
+    "rest_of": (5, ((1, 2, 0, 4), (0, 0, 1, 3)), (2, 0, 3, 0), 4), "within": (3, ((1, 2, 0),), ((1, 0, 0), (0, 1, 0))),
+    "meet": (3, ((1, 0, 0), (0, 1, 0)), ((1, 0, 1),), 3), "join": (3, ((1, 0, 0), (0, 1, 0)), ((1, 0, 1),), 3),
+    "need_order": (CHAIN,), "order_of": (3, ((1, 2), (0, 1))), "covers_of": (CHAIN,), "upside_down": (CHAIN,),
+    "part_order": (CHAIN, (0, 2)), "rows": (CHAIN, 1), "height": (CHAIN,), "up_of": (CHAIN, 1), "down_of": (CHAIN, 1),
+    "is_up": (CHAIN, (1, 2)), "ups": (CHAIN,), "up_hull": (CHAIN, (1,)),
+    "need_leading": (TWO, CHAIN, (0, 2)), "product_order": (TWO, CHAIN), "beside_order": (TWO, CHAIN),
+    "rows_order": (CHAIN,), "loose_spots": (CHAIN,), "bared": (CHAIN,), "is_tied": (CHAIN,), "pieces": (CHAIN,),
+    "bared_leading": (CHAIN,), "last_spots": (CHAIN,),
+    "patch_breach": (PATCH[:3],), "need_patch": (PATCH,), "level_patch": (5, CHAIN, 2), "lone_patch": (5, CHAIN, 1),
+    "standing": (5, CHAIN, 1), "springing": (5, CHAIN, 1), "lead": (PATCH, 0, 1), "cut_patch": (PATCH, (0, 2)),
+    "size_in_all": (PATCH,), "tellings": (PATCH, (1, 2)), "cut_telling": (PATCH, (0, 1, 2), (1, 2), (3, 1, 4, 3)),
+    "glued": (PATCH, (1, 2), (2,), (1, 4, 3), (3,)),
+    "need_map": (LEVEL, PATCH, LED), "still_map": (PATCH,), "behind_map": (LEVEL, PATCH, PATCH, LED, STILL),
+    "map_space": (LEVEL, PATCH), "maps_size": (LEVEL, PATCH), "kernel_patch": (LEVEL, PATCH, LED),
+    "image_patch": (LEVEL, PATCH, LED), "rest_patch": (LEVEL, PATCH, LED), "kernel_map": (LEVEL, PATCH, LED),
+    "image_maps": (LEVEL, PATCH, LED), "rest_map": (LEVEL, PATCH, LED), "is_exact": (LEVEL, PATCH, PATCH, LED, STILL),
+    "is_same": (LEVEL, PATCH), "same_map": (PATCH, PATCH), "unsplit_sizes": (PATCH,), "unsplit_patches": (PATCH,),
+    "split_map": (PATCH, (LEVEL, (5, CHAIN, (0, 1, 0), (((),), (), ((0,),))))),
+    "sum_patch": (LEVEL, PATCH), "mixed_patch": (PATCH, PATCH), "maps_patch": (LEVEL, PATCH),
+    "outer_patch": (SHORT, PATCH), "beside_patch": (SHORT, PATCH)}
+
+
+def module(name):
+    return importlib.import_module("patchrooms." + name)
+
+
+def signatures():
+    for file, lines in INTERFACE.items():
+        for line in lines:
+            name, rest = line[:-1].split("(")
+            yield file, name, rest.split(", ")
+
+
+class InterfaceTest(unittest.TestCase):
+
+    def test_names_and_arguments(self):
+        self.assertEqual(len(list(signatures())), len(CALLS))
+        for file, name, arguments in signatures():
+            function = getattr(module(file), name)
+            self.assertTrue(inspect.isfunction(function))
+            self.assertEqual(function.__module__, "patchrooms." + file, name)
+            self.assertEqual(list(inspect.signature(function).parameters), arguments, name)
+
+    def test_arguments_by_name_in_another_sequence(self):
+        for file, name, arguments in signatures():
+            function, values = getattr(module(file), name), CALLS[name]
+            expected = function(*values)
+            named = list(zip(arguments, values))
+            for shift in range(len(named)):
+                self.assertEqual(function(**dict(named[shift:] + named[:shift])), expected, name)
+                self.assertEqual(function(**dict((named[shift:] + named[:shift])[::-1])), expected, name)
+
+    def test_nothing_is_changed_and_plain_values_are_returned(self):
+        for file, name, _ in signatures():
+            values = CALLS[name]
+            before = repr(values)
+            result = getattr(module(file), name)(*values)
+            self.assertTrue(support.is_plain(result), name)
+            self.assertEqual(repr(values), before, name)
+            # A second call knows nothing of the first one.
+            self.assertEqual(getattr(module(file), name)(*values), result, name)
+
+    def test_any_values_are_not_changed(self):
+        for name, file, values in (("need_order", "orders", ([2, [[0, 1]]],)),
+                                   ("need_order", "orders", ((2, [(0, 1)]),)),
+                                   ("need_leading", "leadings", (TWO, CHAIN, [1, 0])),
+                                   ("patch_breach", "patches", (list(PATCH),)),
+                                   ("need_patch", "patches", (PATCH[:3] + ([[[2], [3]], [[1]], [[1, 3]]],),)),
+                                   ("need_map", "maps", (LEVEL, PATCH, [[[1]], [[2], [3]], [[1]]]))):
+            before = repr(values)
+            support.refusal(getattr(module(file), name), *values)
+            self.assertEqual(repr(values), before)
+
+    def test_refusals_by_name(self):
+        leadings, maps, sums, splits = (module(name) for name in ("leadings", "maps", "sums", "splits"))
+        self.assertEqual(support.refused(leadings.need_leading, value=(2, 0), other=CHAIN, one=TWO),
+                         ("NotLeading", 0))
+        self.assertEqual(support.refused(maps.need_map, value=STILL, other=PATCH, one=LEVEL), ("NotMap", -1))
+        self.assertEqual(support.refused(sums.sum_patch, other=SHORT, one=LEVEL), ("NotFit",))
+        self.assertEqual(support.refused(splits.is_same, other=SHORT, one=LEVEL), ("NotFit",))
+
+
+if __name__ == "__main__":
+    unittest.main()
