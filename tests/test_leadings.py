@@ -196,14 +196,10 @@ class LooseTest(unittest.TestCase):
             self.assertEqual(loose_spots(part_order(order, left)), ())
 
     def test_what_is_left_does_not_hang_on_the_sequence(self):
+        rng = random.Random(5)
         for order in ORDERS + greater_orders(2, 40):
-            first, last = bared(order), self.bared_by_words(order, max)
-            one, other = part_order(order, first), part_order(order, last)
-            self.assertEqual(len(first), len(last))
-            if one[0] <= 6:
-                turned = [tuple(sorted((p[x], p[y]) for x, y in one[1]))
-                          for p in itertools.permutations(range(one[0]))]
-                self.assertIn(other[1], turned)
+            for choose in (max, rng.choice):
+                self.assertEqual(self.bared_by_words(order, choose), bared(order))
 
     def test_bared_leading(self):
         for order in ORDERS + greater_orders(3, 150):

@@ -355,6 +355,16 @@ class SplitMapTest(unittest.TestCase):
         # Added up at each spot, not in all.
         self.assertIsNone(split_map(lone_patch(2, support.antichain(2), 0), (lone_patch(2, support.antichain(2), 1),)))
 
+    def test_parts_that_do_not_fit(self):
+        patch = level_patch(5, support.VEE, 1)
+        self.assertEqual(support.refused(split_map, patch, (level_patch(7, support.VEE, 1),)), ("NotFit",))
+        self.assertEqual(support.refused(split_map, patch, (level_patch(5, support.ROOF, 1),)), ("NotFit",))
+        self.assertEqual(support.refused(split_map, patch, (level_patch(5, support.antichain(3), 1),)), ("NotFit",))
+        # Here, too, the sizes are looked at first.
+        self.assertIsNone(split_map(patch, (level_patch(7, support.VEE, 2),)))
+        self.assertIsNone(split_map(patch, (level_patch(5, support.chain(2), 1),)))
+        self.assertIsNone(split_map(patch, (patch, level_patch(5, support.chain(4), 0))))
+
     def test_unlike_patches_of_the_same_sizes(self):
         self.assertIsNone(split_map(round_patch(5, ((2,),)), (level_patch(5, support.CROWN, 1),)))
         self.assertIsNone(split_map(level_patch(5, support.VEE, 1), tuple(
