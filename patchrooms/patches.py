@@ -84,10 +84,15 @@ def need_fit(one, other):
         raise NotFit("the orders or primes are unlike")
 
 
-def need_sizes(sizes):
-    """Refuse sizes that are too great in all, then ones that are too great at a spot."""
+def need_in_all(sizes):
+    """Refuse sizes that are too great in all."""
     if sum(sizes) > MOST_IN_ALL:
         raise TooMany(MOST_IN_ALL)
+
+
+def need_sizes(sizes):
+    """Refuse sizes that are too great in all, then ones that are too great at a spot."""
+    need_in_all(sizes)
     if any(size > MOST_AT_A_SPOT for size in sizes):
         raise TooMany(MOST_AT_A_SPOT)
 
@@ -95,7 +100,7 @@ def need_sizes(sizes):
 def level_patch(prime, order, size):
     """The patch with this size at all spots and tables that change nothing."""
     sizes = (size,) * order[0]
-    need_sizes(sizes)
+    need_in_all(sizes)
     return prime, order, sizes, (still_table(size),) * len(order[1])
 
 

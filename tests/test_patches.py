@@ -150,6 +150,9 @@ class MadePatchesTest(unittest.TestCase):
         self.assertEqual(size_in_all(level_patch(2, support.antichain(16), 2)), 32)
         for n in (14, 15, 16):
             self.assertEqual(support.refused(level_patch, 2, support.antichain(n), 3), ("TooMany", 40))
+        # Somewhat beyond the limit for a size, no error is told but that one.
+        self.assertEqual(level_patch(2, support.antichain(4), 10)[2], (10,) * 4)
+        self.assertEqual(support.refused(level_patch, 2, support.antichain(5), 9), ("TooMany", 40))
 
     def test_of_one_spot(self):
         order = support.order(4, (3, 1), (1, 0))
