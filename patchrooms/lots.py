@@ -38,6 +38,14 @@ def rest_of(prime, basis, column, size):
     return tuple([left[place] for place in free_places(basis, size)])
 
 
+def of_rest(basis, rest, size):
+    """The column of the size with 0 at the lead places that has the rest."""
+    column = [0] * size
+    for place, entry in zip(free_places(basis, size), rest):
+        column[place] = entry
+    return tuple(column)
+
+
 def within(prime, one, other):
     """Whether the lot one is part of the lot other."""
     return not any(any(taken_off(prime, other, column)) for column in one)

@@ -120,6 +120,13 @@ def down_of(order, x):
     return tuple(sorted([x] + [y for y, above in order[1] if above == x]))
 
 
+def is_spot_set(order, value):
+    """Whether the value of any kind is an ascending tuple of spots."""
+    if not isinstance(value, tuple) or not is_wholes(value, len(value), 0, order[0] - 1):
+        return False
+    return is_ascending(value)
+
+
 def is_up(order, spots):
     """Whether the spot set has with each spot all above it."""
     return all(y in spots for x, y in order[1] if x in spots)

@@ -31,7 +31,18 @@ INTERFACE = {
     "splits": ("is_same(one, other)", "same_map(one, other)", "unsplit_sizes(patch)", "unsplit_patches(patch)",
                "split_map(patch, parts)"),
     "sums": ("sum_patch(one, other)", "mixed_patch(one, other)", "maps_patch(one, other)", "outer_patch(one, other)",
-             "beside_patch(one, other)")}
+             "beside_patch(one, other)"),
+    "holes": ("hole_size(patch, k)", "hole_sizes(patch)", "border_of(patch, k, load)", "hole_basis(patch, k)",
+              "hole_parts(patch, k, load)", "hole_table(one, other, led, k)", "pieces_size(order)",
+              "hole_rank(one, other, led, k)", "connecting_rank(one, other, third, first, second, k)",
+              "long_row(one, other, third, first, second)"),
+    "products": ("product_load(one, other, i, j, f, g)", "product_rank(one, other, i, j)"),
+    "covers": ("need_cover(order, value)", "cover_hole_sizes(patch, cover)", "is_good(patch, cover)",
+               "least_cover(order)", "pair_ranks(patch, one, other)", "cover_border(patch, cover, k, load)",
+               "load_by_rows(patch, cover, k, load)", "cover_rank(patch, cover, k)"),
+    "shares": ("shared_sizes(patch, cover)", "second_sizes(patch, cover)", "nerve_order(order, cover)",
+               "is_finer(order, one, other)", "finer_rank(patch, one, other, k)"),
+    "counts": ("standing_counts(patch)", "springing_counts(patch)", "near_sizes(patch, x)")}
 
 CHAIN = (3, ((0, 1), (0, 2), (1, 2)))
 PATCH = (5, CHAIN, (1, 2, 1), (((2,), (3,)), ((1,),), ((1, 3),)))
@@ -40,6 +51,15 @@ LED = (((1,),), ((2,), (3,)), ((1,),))
 STILL = (((1,),), ((1, 0), (0, 1)), ((1,),))
 TWO = (2, ((0, 1),))
 SHORT = (5, TWO, (1, 2), (((2,), (3,)),))
+CROWN = (4, ((0, 2), (0, 3), (1, 2), (1, 3)))
+BENT = (5, CROWN, (1, 1, 1, 2), (((1,),), ((1,), (2,)), ((1,),), ((1,), (2,))))
+EVEN = (5, CROWN, (1, 1, 1, 1), (((1,),),) * 4)
+INTO = (((2,),), ((2,),), ((2,),), ((2,), (4,)))
+COVER = ((0, 2, 3), (1, 2, 3))
+WIDER = ((0, 1, 2, 3), (2, 3))
+# The tops of the crown, the crown, and its lows.
+TOPS, LOWS = (5, CROWN, (0, 0, 1, 1), (((),),) * 4), (5, CROWN, (1, 1, 0, 0), ((),) * 4)
+ROW = (TOPS, EVEN, LOWS, (((),), ((),), ((1,),), ((1,),)), (((1,),), ((1,),), (), ()))
 
 # For each function arguments, each of its own worth, so that none can stand for another one.
 CALLS = {
@@ -66,7 +86,17 @@ CALLS = {
     "is_same": (LEVEL, PATCH), "same_map": (PATCH, PATCH), "unsplit_sizes": (PATCH,), "unsplit_patches": (PATCH,),
     "split_map": (PATCH, (LEVEL, (5, CHAIN, (0, 1, 0), (((),), (), ((0,),))))),
     "sum_patch": (LEVEL, PATCH), "mixed_patch": (PATCH, PATCH), "maps_patch": (LEVEL, PATCH),
-    "outer_patch": (SHORT, PATCH), "beside_patch": (SHORT, PATCH)}
+    "outer_patch": (SHORT, PATCH), "beside_patch": (SHORT, PATCH),
+    "hole_size": (BENT, 1), "hole_sizes": (BENT,), "border_of": (BENT, 0, (1, 2, 3, 4, 0)), "hole_basis": (BENT, 1),
+    "hole_parts": (BENT, 1, (1, 2, 3, 4, 0, 2)), "hole_table": (EVEN, BENT, INTO, 1), "pieces_size": (CROWN,),
+    "hole_rank": (EVEN, BENT, INTO, 1), "connecting_rank": ROW + (0,), "long_row": ROW,
+    "product_load": (EVEN, BENT, 0, 1, (1, 2, 3, 4), (1, 2, 3, 4, 0, 2)), "product_rank": (EVEN, BENT, 0, 1),
+    "need_cover": (CROWN, COVER), "cover_hole_sizes": (BENT, COVER), "is_good": (BENT, COVER),
+    "least_cover": (CROWN,), "pair_ranks": (BENT, (0, 2, 3), (1, 2, 3)), "cover_border": (BENT, COVER, 0, (1, 3)),
+    "load_by_rows": (BENT, COVER, 1, (1, 2, 3)), "cover_rank": (BENT, COVER, 1),
+    "shared_sizes": (BENT, COVER), "second_sizes": (BENT, COVER), "nerve_order": (CROWN, WIDER),
+    "is_finer": (CROWN, COVER, WIDER), "finer_rank": (BENT, COVER, WIDER, 0),
+    "standing_counts": (BENT,), "springing_counts": (BENT,), "near_sizes": (BENT, 1)}
 
 
 def module(name):
@@ -115,7 +145,9 @@ class InterfaceTest(unittest.TestCase):
                                    ("need_leading", "leadings", (TWO, CHAIN, [1, 0])),
                                    ("patch_breach", "patches", (list(PATCH),)),
                                    ("need_patch", "patches", (PATCH[:3] + ([[[2], [3]], [[1]], [[1, 3]]],),)),
-                                   ("need_map", "maps", (LEVEL, PATCH, [[[1]], [[2], [3]], [[1]]]))):
+                                   ("need_map", "maps", (LEVEL, PATCH, [[[1]], [[2], [3]], [[1]]])),
+                                   ("need_cover", "covers", (CROWN, [[0, 2, 3], [1, 2, 3]])),
+                                   ("need_cover", "covers", (CROWN, ([3, 2, 0], [1, 2, 3])))):
             before = repr(values)
             support.refusal(getattr(module(file), name), *values)
             self.assertEqual(repr(values), before)
@@ -127,6 +159,15 @@ class InterfaceTest(unittest.TestCase):
         self.assertEqual(support.refused(maps.need_map, value=STILL, other=PATCH, one=LEVEL), ("NotMap", -1))
         self.assertEqual(support.refused(sums.sum_patch, other=SHORT, one=LEVEL), ("NotFit",))
         self.assertEqual(support.refused(splits.is_same, other=SHORT, one=LEVEL), ("NotFit",))
+        holes, products, covers, shares = (module(name) for name in ("holes", "products", "covers", "shares"))
+        self.assertEqual(support.refused(holes.hole_parts, load=(1, 0, 0, 0, 0), k=0, patch=BENT), ("NotHole",))
+        self.assertEqual(support.refused(holes.long_row, second=ROW[4], first=(((),), ((),), ((1,),), ((0,),)),
+                                         third=LOWS, other=EVEN, one=TOPS), ("NotExact",))
+        self.assertEqual(support.refused(products.product_load, g=(1,), f=(), j=0, i=1, other=SHORT, one=LEVEL),
+                         ("NotFit",))
+        self.assertEqual(support.refused(covers.need_cover, value=COVER[:1], order=CROWN), ("NotCover", 1))
+        self.assertEqual(support.refused(covers.pair_ranks, other=(2,), one=(0, 2, 3), patch=BENT), ("NotCover", 2))
+        self.assertEqual(support.refused(shares.finer_rank, k=0, other=COVER, one=WIDER, patch=BENT), ("NotFiner",))
 
 
 if __name__ == "__main__":
