@@ -1,6 +1,6 @@
 """Holes of a patch by rows, and where maps lead them. [18] to [21]"""
 
-from patchrooms.blocks import block_table, hole_counts, long_ranks, room_size
+from patchrooms.blocks import block_table, hole_counts, long_ranks, room_size, starts_in
 from patchrooms.errors import NotExact, NotHole
 from patchrooms.leadings import pieces
 from patchrooms.loads import every_spot, need_loads, row_border, row_room, sizes_by_rows
@@ -103,22 +103,19 @@ def hole_rank(one, other, led, k):
     return rank(one[0], hole_table(one, other, led, k))
 
 
-def cut_load(patch, spots, fewer, k, load):
-    """What a load of the degree k of the patch cut to the spots tells for the rows of the fewer ones."""
-    told = []
-    place = 0
-    for row, many in load_room(cut_patch(patch, spots), k).items():
-        if all(spots[x] in fewer for x in row):
-            told.extend(load[place:place + many])
-        place += many
-    return tuple(told)
+def kept_places(room, spots, fewer):
+    """The places, in loads of the room of the patch cut to the spots, of the rows of the fewer ones."""
+    starts = starts_in(room)
+    kept = [row for row in room if all(spots[x] in fewer for x in row)]
+    return [starts[row] + more for row in kept for more in range(room[row])]
 
 
 def cut_holes(patch, spots, fewer, k, low, high):
     """The table that cuts holes of the patch over the spots to the fewer ones; low and high are their hole lots."""
-    loads = loads_by(low, room_size(load_room(cut_patch(patch, spots), k)))
-    columns = [parts_by(patch[0], high, cut_load(patch, spots, fewer, k, load)) for load in loads]
-    return from_columns(columns, len(high[1]))
+    room = load_room(cut_patch(patch, spots), k)
+    places = kept_places(room, spots, fewer)
+    cut = [tuple([load[place] for place in places]) for load in loads_by(low, room_size(room))]
+    return from_columns([parts_by(patch[0], high, load) for load in cut], len(high[1]))
 
 
 def pieces_size(order):

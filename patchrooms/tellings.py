@@ -53,7 +53,7 @@ def glued(patch, one, other, first, second):
     shared = tuple([x for x in one if x in other])
     if cut_telling(patch, one, shared, first) != cut_telling(patch, other, shared, second):
         return None
-    told = {x: part for x, part in zip(one, split_column([patch[2][x] for x in one], first))}
-    more = {x: part for x, part in zip(other, split_column([patch[2][x] for x in other], second))}
+    told = {x: part for x, part in zip(one, split_column([patch[2][spot] for spot in one], first))}
+    more = {x: part for x, part in zip(other, split_column([patch[2][spot] for spot in other], second))}
     told.update(more)
     return tuple([entry for x in sorted(told) for entry in told[x]])

@@ -326,3 +326,50 @@ def made_pairs(seed, count, many=2, orders=HOLED):
         if max(most_loads(patch) for patch in pair) <= 160:
             found.append(pair)
     return found
+
+
+# Leadings.
+
+SMALL = tuple(value for value in ORDERS + HOLED if value[0] <= 5)
+
+
+def is_leading(one, other, led):
+    return all(is_below(other, led[x], led[y]) for x, y in one[1])
+
+
+def random_leading(rng, one, other):
+    """Some leading of one to other, of which there are none if other alone has no spot."""
+    while True:
+        led = {}
+        for x in sorted(range(one[0]), key=lambda x: sum(y == x for _, y in one[1])):
+            fitting = [z for z in range(other[0])
+                       if all(is_below(other, led[y], z) for y in led if (y, x) in one[1])]
+            if not fitting:
+                break
+            led[x] = rng.choice(fitting)
+        if len(led) == one[0]:
+            return tuple(led[x] for x in range(one[0]))
+
+
+def leading_on(rng, one, orders=SMALL):
+    """(other, a leading of one to it)."""
+    other = rng.choice([value for value in orders if value[0] or not one[0]])
+    return other, random_leading(rng, one, other)
+
+
+def above(other, led, y):
+    """The spots that are led to y or above it."""
+    return tuple(x for x, z in enumerate(led) if is_below(other, y, z))
+
+
+def below(other, led, y):
+    return tuple(x for x, z in enumerate(led) if is_below(other, z, y))
+
+
+def moving(seed, count, many=2):
+    """(patch, other, leading of its order to other)."""
+    rng = random.Random(seed)
+    found = []
+    for patch in made_patches(seed, count, many, SMALL) + patches(seed, count, orders=SMALL):
+        found.append((patch,) + leading_on(rng, patch[1]))
+    return found

@@ -222,7 +222,8 @@ class NearTest(unittest.TestCase):
                 if not above:
                     self.assertEqual(near_sizes(patch, x), (sizes[x],) + (0,) * (many - 1))
                     continue
-                led = [tuple(entry for y in above for entry in support.times(prime, support.lead_table(patch, x, y), unit))
+                leads = [support.lead_table(patch, x, y) for y in above]
+                led = [tuple(entry for table in leads for entry in support.times(prime, table, unit))
                        for unit in slow.units(sizes[x])]
                 r = support.rank_of(prime, led)
                 part = slow.hole_sizes(cut_patch(patch, above))

@@ -139,6 +139,16 @@ def covered(seed, count, most=4, many=2):
     return found
 
 
+def shared_tops(many, tops):
+    """Five up sets, of which fewer than so many share a spot of the size 0 below all tops: it lets no telling be."""
+    lows = lots((None,) * 5, many - 1)
+    n = len(lows) + len(tops)
+    order = support.order(n, *[(x, y) for x in range(len(lows)) for y in range(len(lows), n)])
+    cover = tuple(tuple(x for x, lot in enumerate(lows) if number in lot) + tuple(range(len(lows), n))
+                  for number in range(5))
+    return slow.flat(2, order, (0,) * len(lows) + tops), cover
+
+
 class NeedTest(unittest.TestCase):
 
     def test_covers_are_returned(self):
@@ -235,6 +245,13 @@ class HoleSizesTest(unittest.TestCase):
         forty = slow.flat(2, support.antichain(5), (8,) * 5)
         self.assertEqual(support.refused(cover_hole_sizes, forty, ((0, 1, 2, 3, 4),) * 4), ("TooMany", 160))
         self.assertEqual(cover_hole_sizes(forty, ((0, 1, 2, 3, 4),) * 3), (40, 0, 0))
+        # What three up sets share has many tellings, or what four share, but not what fewer share.
+        for many, few, wide in ((3, (8, 8), (8, 8, 1)), (4, (8,) * 4, (8,) * 4 + (1,))):
+            for tops, expected in ((few, None), (wide, ("TooMany", 160))):
+                patch, cover = shared_tops(many, tops)
+                self.assertEqual(support.refused(cover_hole_sizes, patch, cover), expected)
+                self.assertEqual(support.refused(cover_border, patch, cover, 0, ()), expected)
+                self.assertEqual(support.refused(cover_border, patch, cover, 16, ()), expected)
         # The patch has few loads by rows then; it raises nothing for them.
         self.assertEqual(hole_sizes(more), (17,))
 

@@ -8,7 +8,8 @@ from patchrooms.holes import (border_of, connecting_rank, hole_basis, hole_parts
                               hole_table, long_row, pieces_size)
 from patchrooms.leadings import beside_order, loose_spots, product_order
 from patchrooms.lots import rest_of
-from patchrooms.maps import image_maps, image_patch, kernel_map, kernel_patch, map_space, rest_map, rest_patch, still_map
+from patchrooms.maps import (image_maps, image_patch, kernel_map, kernel_patch, map_space, rest_map, rest_patch,
+                             still_map)
 from patchrooms.patches import cut_patch, level_patch, lone_patch, standing
 from patchrooms.sums import beside_patch, outer_patch, sum_patch
 from patchrooms.tables import reduced

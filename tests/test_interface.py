@@ -42,7 +42,16 @@ INTERFACE = {
                "load_by_rows(patch, cover, k, load)", "cover_rank(patch, cover, k)"),
     "shares": ("shared_sizes(patch, cover)", "second_sizes(patch, cover)", "nerve_order(order, cover)",
                "is_finer(order, one, other)", "finer_rank(patch, one, other, k)"),
-    "counts": ("standing_counts(patch)", "springing_counts(patch)", "near_sizes(patch, x)")}
+    "counts": ("standing_counts(patch)", "springing_counts(patch)", "near_sizes(patch, x)"),
+    "ways": ("ways_size(one, other, k)", "ways_sizes(one, other)", "signs_between(order)"),
+    "moved": ("back_patch(patch, one, led)", "forward_patch(patch, other, led)", "gathered_patch(patch, other, led)",
+              "moved_map(one, other, led, order, along, way)", "forward_hole_sizes(patch, other, led)",
+              "is_tight(prime, one, other, led)"),
+    "turning": ("forward_turn(g, f, along, led)", "back_turn(g, f, along, led)", "gathered_turn(f, g, along, led)",
+                "apart_turn(f, g, along, led)"),
+    "higher": ("forward_holes(patch, other, led, k)", "moved_holes_bound(patch, other, led)"),
+    "cutting": ("put_in(patch, order, spots)", "up_row(patch, spots)", "held_patch(patch, spots)",
+                "beside_hole_sizes(patch, spots)", "away_map(patch, spots)", "beside_ranks(patch, spots)")}
 
 CHAIN = (3, ((0, 1), (0, 2), (1, 2)))
 PATCH = (5, CHAIN, (1, 2, 1), (((2,), (3,)), ((1,),), ((1, 3),)))
@@ -60,6 +69,10 @@ WIDER = ((0, 1, 2, 3), (2, 3))
 # The tops of the crown, the crown, and its lows.
 TOPS, LOWS = (5, CROWN, (0, 0, 1, 1), (((),),) * 4), (5, CROWN, (1, 1, 0, 0), ((),) * 4)
 ROW = (TOPS, EVEN, LOWS, (((),), ((),), ((1,),), ((1,),)), (((1,),), ((1,),), (), ()))
+# The crown led to a chain, and maps along this.
+ALONG = (0, 0, 1, 1)
+DOWN = (5, TWO, (1, 1), (((2,),),))
+FROM_BACK, TO_BACK = (((1,),), ((1,),), ((3,),), ((3,),)), (((1,),), ((1,),), ((2,),), ((2,),))
 
 # For each function arguments, each of its own worth, so that none can stand for another one.
 CALLS = {
@@ -96,7 +109,16 @@ CALLS = {
     "load_by_rows": (BENT, COVER, 1, (1, 2, 3)), "cover_rank": (BENT, COVER, 1),
     "shared_sizes": (BENT, COVER), "second_sizes": (BENT, COVER), "nerve_order": (CROWN, WIDER),
     "is_finer": (CROWN, COVER, WIDER), "finer_rank": (BENT, COVER, WIDER, 0),
-    "standing_counts": (BENT,), "springing_counts": (BENT,), "near_sizes": (BENT, 1)}
+    "standing_counts": (BENT,), "springing_counts": (BENT,), "near_sizes": (BENT, 1),
+    "ways_size": (EVEN, BENT, 1), "ways_sizes": (EVEN, BENT), "signs_between": (CROWN,),
+    "back_patch": (SHORT, CHAIN, (0, 1, 1)), "forward_patch": (BENT, CHAIN, (0, 1, 2, 2)),
+    "gathered_patch": (BENT, CHAIN, (0, 1, 2, 2)), "moved_map": (EVEN, BENT, INTO, TWO, ALONG, "forward"),
+    "forward_hole_sizes": (BENT, TWO, ALONG), "is_tight": (5, CROWN, TWO, ALONG),
+    "forward_turn": (DOWN, EVEN, ALONG, FROM_BACK), "back_turn": (DOWN, EVEN, ALONG, (((1,),), ((3,), (3,)))),
+    "gathered_turn": (EVEN, DOWN, ALONG, TO_BACK), "apart_turn": (EVEN, DOWN, ALONG, (((1, 1),), ((2,),))),
+    "forward_holes": (BENT, TWO, (1, 1, 1, 1), 1), "moved_holes_bound": (BENT, TWO, ALONG),
+    "put_in": (SHORT, CHAIN, (1, 2)), "up_row": (BENT, (1, 2, 3)), "held_patch": (BENT, (0, 1, 2)),
+    "beside_hole_sizes": (BENT, (2, 3)), "away_map": (BENT, (2, 3)), "beside_ranks": (BENT, (1, 2, 3))}
 
 
 def module(name):
@@ -168,6 +190,14 @@ class InterfaceTest(unittest.TestCase):
         self.assertEqual(support.refused(covers.need_cover, value=COVER[:1], order=CROWN), ("NotCover", 1))
         self.assertEqual(support.refused(covers.pair_ranks, other=(2,), one=(0, 2, 3), patch=BENT), ("NotCover", 2))
         self.assertEqual(support.refused(shares.finer_rank, k=0, other=COVER, one=WIDER, patch=BENT), ("NotFiner",))
+        ways, moved, cutting = (module(name) for name in ("ways", "moved", "cutting"))
+        self.assertEqual(support.refused(ways.ways_size, k=0, other=SHORT, one=LEVEL), ("NotFit",))
+        self.assertEqual(support.refused(cutting.put_in, spots=(0, 2), order=CHAIN, patch=SHORT), ("NotFit",))
+        self.assertEqual(support.refused(cutting.up_row, spots=(0,), patch=BENT), ("NotFit",))
+        self.assertEqual(support.refused(moved.back_patch, led=(0,) * 6, one=(6, ()), patch=(5, (1, ()), (8,), ())),
+                         ("TooMany", 40))
+        self.assertEqual(module("moved").moved_map(way="back", along=ALONG, order=CROWN, led=(((3,),), ((3,),)),
+                                                   other=DOWN, one=DOWN), (((3,),),) * 4)
 
 
 if __name__ == "__main__":

@@ -82,6 +82,22 @@ def bound_inside(tree):
     return found
 
 
+def made_at_once(node):
+    """Whether the call makes what is iterated on the spot."""
+    name = getattr(node.func, "id", "") or getattr(node.func, "attr", "")
+    return name in ("zip", "enumerate", "reversed", "combinations", "permutations", "product", "items", "keys",
+                    "values")
+
+
+def inner_names(node):
+    """The variables of a comprehension."""
+    return {part.id for generator in node.generators for part in ast.walk(generator.target)
+            if isinstance(part, ast.Name)}
+
+
+COMPREHENSIONS = (ast.ListComp, ast.SetComp, ast.DictComp, ast.GeneratorExp)
+
+
 class FilesTest(unittest.TestCase):
 
     def test_files_and_characters(self):
@@ -188,12 +204,30 @@ class NodesTest(unittest.TestCase):
                     called = isinstance(around, ast.Call) and getattr(around.func, "id", "") in ("sorted", "len")
                     self.assertTrue(called or isinstance(around, (ast.Compare, ast.Assign)), name)
 
+    def test_no_name_means_two_things_in_comprehensions(self):
+        for name, tree in TREES.items():
+            for outer in ast.walk(tree):
+                if isinstance(outer, COMPREHENSIONS):
+                    inner = [node for node in ast.walk(outer) if isinstance(node, COMPREHENSIONS) and node is not outer]
+                    for node in inner:
+                        self.assertEqual(inner_names(outer) & inner_names(node), set(), name)
+
+    def test_calls_pass_what_functions_take(self):
+        takes = {node.name: node.args for tree in TREES.values() for node in tree.body
+                 if isinstance(node, ast.FunctionDef)}
+        for name, tree in TREES.items():
+            own = {word: takes[word] for word in list(imported(tree)) + defined(tree) if word in takes}
+            for node in ast.walk(tree):
+                if isinstance(node, ast.Call) and getattr(node.func, "id", "") in own:
+                    given = len(node.args) + len(node.keywords)
+                    self.assertEqual(given, len(own[node.func.id].args), name + ": " + node.func.id)
+
     def test_views_are_iterated_at_once(self):
         takers = ("list", "tuple", "dict", "sorted", "sum", "any", "all", "enumerate", "zip", "min", "max", "len")
         for name, tree in TREES.items():
             parents = {child: node for node in ast.walk(tree) for child in ast.iter_child_nodes(node)}
             for node in ast.walk(tree):
-                if isinstance(node, ast.Call) and getattr(node.func, "id", "") in ("zip", "enumerate", "reversed"):
+                if isinstance(node, ast.Call) and made_at_once(node):
                     around = parents[node]
                     taken = isinstance(around, ast.Call) and getattr(around.func, "id", "") in takers
                     self.assertTrue(taken or isinstance(around, (ast.For, ast.comprehension)), name)

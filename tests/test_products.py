@@ -45,15 +45,20 @@ def exchanged(one, other, k, load):
     return found
 
 
-def mixing_pairs(seed, count, springs=3, orders=slow.HOLED + slow.ORDERS):
-    """Pairs of patches of which the mixed patch is not too great and has not too many loads."""
+def fitting(pairs):
+    """Those pairs of which the mixed patch is not too great and has not too many loads."""
     found = []
-    pairs = support.patch_pairs(seed, count, orders=orders, springs=springs)
-    for one, other in pairs + slow.made_pairs(seed, count // 2):
+    for one, other in pairs:
         fits = support.sizes_fit(tuple(a * b for a, b in zip(one[2], other[2])))
         if fits and all(slow.most_loads(part) <= 160 for part in (one, other, mixed_patch(one, other))):
             found.append((one, other))
     return found
+
+
+def mixing_pairs(seed, count, springs=3):
+    """Such pairs over many orders."""
+    found = support.patch_pairs(seed, count, orders=slow.HOLED + slow.ORDERS, springs=springs)
+    return fitting(found + slow.made_pairs(seed, count // 2))
 
 
 def some_load(rng, patch, k):
@@ -207,7 +212,7 @@ class RankTest(unittest.TestCase):
 
     def test_by_words(self):
         seen = 0
-        for one, other in mixing_pairs(7, 120, springs=4):
+        for one, other in mixing_pairs(7, 80, springs=4) + fitting(slow.made_pairs(71, 70, 3)):
             top = slow.height(one[1])
             for i in range(top + 1):
                 for j in range(top + 1):
