@@ -1,12 +1,13 @@
 """Least rows of standing and of springing patches. [29], [32]"""
 
+from patchrooms.duals import dual_patch
 from patchrooms.errors import TooMany
 from patchrooms.loads import need_few, sizes_by_rows
 from patchrooms.lots import lead_places
 from patchrooms.maps import rest_patch
-from patchrooms.orders import height, up_of, upside_down
+from patchrooms.orders import height, up_of
 from patchrooms.patches import lead
-from patchrooms.tables import columns_of, kernel, unit
+from patchrooms.tables import kernel, unit
 
 MOST_IN_A_ROW = 200
 
@@ -56,18 +57,10 @@ def standing_counts(patch):
     return tuple(counts)
 
 
-def turned_over(patch):
-    """The patch over the order upside down, lines and entries of its tables exchanged."""
-    prime, order, sizes, tables = patch
-    turned = {(y, x): columns_of(table, sizes[x]) for (x, y), table in zip(order[1], tables)}
-    low = upside_down(order)
-    return prime, low, sizes, tuple([turned[pair] for pair in low[1]])
-
-
 def springing_counts(patch):
     """For each degree and spot the number of springing patches in the least springing row."""
     # Upside down springing patches stand, and the row runs the other way.
-    return standing_counts(turned_over(patch))
+    return standing_counts(dual_patch(patch))
 
 
 def near_sizes(patch, x):

@@ -51,7 +51,17 @@ INTERFACE = {
                 "apart_turn(f, g, along, led)"),
     "higher": ("forward_holes(patch, other, led, k)", "moved_holes_bound(patch, other, led)"),
     "cutting": ("put_in(patch, order, spots)", "up_row(patch, spots)", "held_patch(patch, spots)",
-                "beside_hole_sizes(patch, spots)", "away_map(patch, spots)", "beside_ranks(patch, spots)")}
+                "beside_hole_sizes(patch, spots)", "away_map(patch, spots)", "beside_ranks(patch, spots)"),
+    "duals": ("dual_patch(patch)", "dual_map(one, other, led)", "low_hole_sizes(patch)", "is_round(prime, order, d)",
+              "neighbourhood(order, row)"),
+    "facing": ("facing_patch(prime, order, k)", "faces_one_way(prime, order, d)"),
+    "signed": ("row_weights(order)", "whole_size(order, count)", "part_size(order, count, spots)",
+               "forward_count(order, count, other, led)", "back_count(count, led)", "low_count(order, count)",
+               "up_count(order, count)"),
+    "traces": ("turned_load(patch, along, led, k, load)", "hole_turn(patch, along, led, k)", "trace(prime, table)",
+               "fixed_spots(along, times)", "fixed_traces(patch, along, led)", "round_sizes(order, along, most)"),
+    "wayrows": ("need_way_row(value)", "stretches(row)", "through_rank(row, i, j)", "row_patch(row)",
+                "sum_row(one, other)", "dual_row(row)", "cut_row(row, i, j)")}
 
 CHAIN = (3, ((0, 1), (0, 2), (1, 2)))
 PATCH = (5, CHAIN, (1, 2, 1), (((2,), (3,)), ((1,),), ((1, 3),)))
@@ -73,6 +83,10 @@ ROW = (TOPS, EVEN, LOWS, (((),), ((),), ((1,),), ((1,),)), (((1,),), ((1,),), ()
 ALONG = (0, 0, 1, 1)
 DOWN = (5, TWO, (1, 1), (((2,),),))
 FROM_BACK, TO_BACK = (((1,),), ((1,),), ((3,),), ((3,),)), (((1,),), ((1,),), ((2,),), ((2,),))
+# The crown with its lows exchanged, and what this makes of its level patch.
+TURN = ((1, 0, 2, 3), (((2,),), ((1,),), ((3,),), ((4,),)))
+FORK = (5, (1, 2, 1), ((1, ((1,), (2,))), (-1, ((3,), (2,)))))
+FORK_2 = (5, (2, 1, 0), ((1, ((1, 4),)), (-1, ((),))))
 
 # For each function arguments, each of its own worth, so that none can stand for another one.
 CALLS = {
@@ -118,7 +132,16 @@ CALLS = {
     "gathered_turn": (EVEN, DOWN, ALONG, TO_BACK), "apart_turn": (EVEN, DOWN, ALONG, (((1, 1),), ((2,),))),
     "forward_holes": (BENT, TWO, (1, 1, 1, 1), 1), "moved_holes_bound": (BENT, TWO, ALONG),
     "put_in": (SHORT, CHAIN, (1, 2)), "up_row": (BENT, (1, 2, 3)), "held_patch": (BENT, (0, 1, 2)),
-    "beside_hole_sizes": (BENT, (2, 3)), "away_map": (BENT, (2, 3)), "beside_ranks": (BENT, (1, 2, 3))}
+    "beside_hole_sizes": (BENT, (2, 3)), "away_map": (BENT, (2, 3)), "beside_ranks": (BENT, (1, 2, 3)),
+    "dual_patch": (BENT,), "dual_map": (LEVEL, PATCH, LED), "low_hole_sizes": (BENT,), "is_round": (3, CROWN, 1),
+    "neighbourhood": (CHAIN, (1,)), "facing_patch": (5, CROWN, 1), "faces_one_way": (5, CROWN, 1),
+    "row_weights": (CROWN,), "whole_size": (CROWN, (1, 2, 3, -5)), "part_size": (CROWN, (1, 2, 3, -5), (1, 2)),
+    "forward_count": (CROWN, (1, 2, 3, -5), CHAIN, (0, 1, 2, 2)), "back_count": ((7, -8), (1, 0, 1)),
+    "low_count": (CROWN, (1, 2, 3, -5)), "up_count": (CROWN, (1, 2, 3, -5)),
+    "turned_load": (EVEN,) + TURN + (1, (1, 2, 3, 4)), "hole_turn": (EVEN,) + TURN + (0,), "trace": (5, ((3, 1), (2, 4))),
+    "fixed_spots": ((1, 0, 2), 3), "fixed_traces": (EVEN,) + TURN, "round_sizes": (CROWN, (1, 0, 2, 3), 3),
+    "need_way_row": (FORK,), "stretches": (FORK,), "through_rank": (FORK, 0, 1), "row_patch": (FORK,),
+    "sum_row": (FORK, FORK_2), "dual_row": (FORK,), "cut_row": (FORK, 0, 1)}
 
 
 def module(name):
@@ -169,7 +192,9 @@ class InterfaceTest(unittest.TestCase):
                                    ("need_patch", "patches", (PATCH[:3] + ([[[2], [3]], [[1]], [[1, 3]]],),)),
                                    ("need_map", "maps", (LEVEL, PATCH, [[[1]], [[2], [3]], [[1]]])),
                                    ("need_cover", "covers", (CROWN, [[0, 2, 3], [1, 2, 3]])),
-                                   ("need_cover", "covers", (CROWN, ([3, 2, 0], [1, 2, 3])))):
+                                   ("need_cover", "covers", (CROWN, ([3, 2, 0], [1, 2, 3]))),
+                                   ("need_way_row", "wayrows", ([5, [1, 2, 1], [[1, [[1], [2]]], [-1, [[3], [2]]]]],)),
+                                   ("need_way_row", "wayrows", (FORK[:2] + (([1, [[1], [2]]], FORK[2][1]),),))):
             before = repr(values)
             support.refusal(getattr(module(file), name), *values)
             self.assertEqual(repr(values), before)
@@ -196,6 +221,10 @@ class InterfaceTest(unittest.TestCase):
         self.assertEqual(support.refused(cutting.up_row, spots=(0,), patch=BENT), ("NotFit",))
         self.assertEqual(support.refused(moved.back_patch, led=(0,) * 6, one=(6, ()), patch=(5, (1, ()), (8,), ())),
                          ("TooMany", 40))
+        facing, wayrows = module("facing"), module("wayrows")
+        self.assertEqual(support.refused(facing.faces_one_way, d=0, order=CROWN, prime=3), ("NotRound",))
+        self.assertEqual(support.refused(wayrows.need_way_row, value=FORK[:2] + ((None, None),)), ("NotRow", 0))
+        self.assertEqual(support.refused(wayrows.sum_row, other=(5, (2,), ()), one=FORK), ("NotFit",))
         self.assertEqual(module("moved").moved_map(way="back", along=ALONG, order=CROWN, led=(((3,),), ((3,),)),
                                                    other=DOWN, one=DOWN), (((3,),),) * 4)
 
