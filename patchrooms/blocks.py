@@ -11,6 +11,14 @@ def sign_of(j):
     return 1 if j % 2 == 0 else -1
 
 
+def power(base, times):
+    """The base, so many times multiplied."""
+    found = 1
+    for _ in range(times):
+        found = found * base
+    return found
+
+
 def room_size(room):
     """How many entries the room has."""
     return sum(room.values())

@@ -15,7 +15,7 @@ def load_room(patch, k):
     return row_room(patch[1], k, every_spot(patch), patch[2])
 
 
-def border_table(patch, k):
+def load_border(patch, k):
     """The table that leads the loads of the degree k to their borders."""
     return row_border(patch, load_room(patch, k), load_room(patch, k + 1))
 
@@ -42,15 +42,15 @@ def hole_sizes(patch):
 def border_of(patch, k, load):
     """The border of the load of the degree k."""
     need_loads(patch)
-    return times_table(patch[0], border_table(patch, k), load)
+    return times_table(patch[0], load_border(patch, k), load)
 
 
 def hole_lots(patch, k):
     """The reduced bases of the borders of the degree k, and of the rests by them of loads with the border 0."""
     prime = patch[0]
     size = room_size(load_room(patch, k))
-    borders = image(prime, border_table(patch, k - 1), room_size(load_room(patch, k - 1)))
-    closed = kernel(prime, border_table(patch, k), size)
+    borders = image(prime, load_border(patch, k - 1), room_size(load_room(patch, k - 1)))
+    closed = kernel(prime, load_border(patch, k), size)
     rests = tuple([rest_of(prime, borders, load, size) for load in closed])
     return borders, reduced(prime, rests, size - len(borders))
 

@@ -61,7 +61,17 @@ INTERFACE = {
     "traces": ("turned_load(patch, along, led, k, load)", "hole_turn(patch, along, led, k)", "trace(prime, table)",
                "fixed_spots(along, times)", "fixed_traces(patch, along, led)", "round_sizes(order, along, most)"),
     "wayrows": ("need_way_row(value)", "stretches(row)", "through_rank(row, i, j)", "row_patch(row)",
-                "sum_row(one, other)", "dual_row(row)", "cut_row(row, i, j)")}
+                "sum_row(one, other)", "dual_row(row)", "cut_row(row, i, j)"),
+    "straight": ("straight_row(prime, towards, lot)", "is_straightening(row, value)", "straightened(row)",
+                 "stretch_maps(towards, one, other)", "row_maps_size(one, other)", "row_ways_size(one, other)"),
+    "walks": ("is_still(patch)", "need_walk(order, value)", "walked(patch, walk)", "tree_of_ties(order)",
+              "round_rules(order)"),
+    "stills": ("still_patch(prime, order, size, tables)", "still_count(prime, order)", "sheet_count(order, n)",
+               "sheets(order, n, exchanges)", "sheet_leading(order, n)"),
+    "webs": ("web_order(web)", "web_patch(prime, web, sizes, ends)", "border_table(patch_web)",
+             "least_load(patch_web, load)", "tie_kinds(patch_web)", "flow_patch(patch_web, kept)",
+             "apart_count(patch_web)", "flow_count(patch_web)"),
+    "texts": ("order_text(order)", "read_order(text)", "patch_text(patch)", "read_patch(text)")}
 
 CHAIN = (3, ((0, 1), (0, 2), (1, 2)))
 PATCH = (5, CHAIN, (1, 2, 1), (((2,), (3,)), ((1,),), ((1, 3),)))
@@ -87,6 +97,10 @@ FROM_BACK, TO_BACK = (((1,),), ((1,),), ((3,),), ((3,),)), (((1,),), ((1,),), ((
 TURN = ((1, 0, 2, 3), (((2,),), ((1,),), ((3,),), ((4,),)))
 FORK = (5, (1, 2, 1), ((1, ((1,), (2,))), (-1, ((3,), (2,)))))
 FORK_2 = (5, (2, 1, 0), ((1, ((1, 4),)), (-1, ((),))))
+TRIANGLE = (3, ((0, 1), (0, 2), (1, 2)))
+TRIANGLE_PATCH = (5, (6, ((0, 3), (0, 4), (1, 3), (1, 5), (2, 4), (2, 5))), (1,) * 6,
+                  (((1,),), ((2,),), ((3,),), ((1,),), ((4,),), ((1,),)))
+HALF = (5, CROWN, (1,) * 4, (((2,),), ((3,),), ((1,),), ((4,),)))
 
 # For each function arguments, each of its own worth, so that none can stand for another one.
 CALLS = {
@@ -141,7 +155,18 @@ CALLS = {
     "turned_load": (EVEN,) + TURN + (1, (1, 2, 3, 4)), "hole_turn": (EVEN,) + TURN + (0,), "trace": (5, ((3, 1), (2, 4))),
     "fixed_spots": ((1, 0, 2), 3), "fixed_traces": (EVEN,) + TURN, "round_sizes": (CROWN, (1, 0, 2, 3), 3),
     "need_way_row": (FORK,), "stretches": (FORK,), "through_rank": (FORK, 0, 1), "row_patch": (FORK,),
-    "sum_row": (FORK, FORK_2), "dual_row": (FORK,), "cut_row": (FORK, 0, 1)}
+    "sum_row": (FORK, FORK_2), "dual_row": (FORK,), "cut_row": (FORK, 0, 1),
+    "straight_row": (5, (1, -1), ((0, 1, 1), (1, 2, 2))), "is_straightening": (FORK_2, (((1, 0), (4, 1)), ((4,),), ())),
+    "straightened": (FORK,), "stretch_maps": ((1, 1), (1, 2), (0, 1)), "row_maps_size": (FORK, FORK_2),
+    "row_ways_size": (FORK, FORK_2), "is_still": (HALF,), "need_walk": (CROWN, (0, 2, 1)),
+    "walked": (HALF, (0, 2, 1)), "tree_of_ties": (CROWN,), "round_rules": (CHAIN,),
+    "still_patch": (5, CROWN, 1, (((3,),),)), "still_count": (5, CROWN), "sheet_count": (CROWN, 3),
+    "sheets": (CROWN, 2, ((1, 0),)), "sheet_leading": (CROWN, 2), "web_order": (TRIANGLE,),
+    "web_patch": (5, (2, ((0, 1),)), (1, 2, 1), ((((3,),), ((1, 4),)),)), "border_table": (TRIANGLE_PATCH,),
+    "least_load": (TRIANGLE_PATCH, (1, 2, 4)), "tie_kinds": (TRIANGLE_PATCH,),
+    "flow_patch": (TRIANGLE_PATCH, (True, False, True)), "apart_count": (TRIANGLE_PATCH,),
+    "flow_count": (TRIANGLE_PATCH,), "order_text": (CHAIN,), "read_order": ("3: 0<1, 1<2",),
+    "patch_text": (PATCH,), "read_patch": ("5; 3: 0<1, 1<2; 1 2 1; 2/3, 1 3",)}
 
 
 def module(name):
@@ -194,6 +219,10 @@ class InterfaceTest(unittest.TestCase):
                                    ("need_cover", "covers", (CROWN, [[0, 2, 3], [1, 2, 3]])),
                                    ("need_cover", "covers", (CROWN, ([3, 2, 0], [1, 2, 3]))),
                                    ("need_way_row", "wayrows", ([5, [1, 2, 1], [[1, [[1], [2]]], [-1, [[3], [2]]]]],)),
+                                   ("is_straightening", "straight", (FORK, [[[1]], [[1, 0], [0, 1]], [[1]]])),
+                                   ("is_straightening", "straight", (FORK, ([[1]], ((1, 0), (0, 1)), ((1,),)))),
+                                   ("need_walk", "walks", (CROWN, [0, 2])), ("need_walk", "walks", (CROWN, ([0], 2))),
+                                   ("walked", "walks", (HALF, [0, 2])),
                                    ("need_way_row", "wayrows", (FORK[:2] + (([1, [[1], [2]]], FORK[2][1]),),))):
             before = repr(values)
             support.refusal(getattr(module(file), name), *values)
@@ -225,6 +254,14 @@ class InterfaceTest(unittest.TestCase):
         self.assertEqual(support.refused(facing.faces_one_way, d=0, order=CROWN, prime=3), ("NotRound",))
         self.assertEqual(support.refused(wayrows.need_way_row, value=FORK[:2] + ((None, None),)), ("NotRow", 0))
         self.assertEqual(support.refused(wayrows.sum_row, other=(5, (2,), ()), one=FORK), ("NotFit",))
+        walks, stills, webs, texts = (module(name) for name in ("walks", "stills", "webs", "texts"))
+        self.assertEqual(support.refused(walks.need_walk, value=(0, 1), order=CROWN), ("NotWalk", 1))
+        self.assertEqual(support.refused(walks.walked, walk=(0, 1), patch=HALF), ("NotWalk", 1))
+        self.assertEqual(support.refused(walks.walked, walk=(0, 1), patch=BENT), ("NotStill",))
+        self.assertEqual(support.refused(stills.sheet_count, n=2, order=(0, ())), ("NotTied",))
+        self.assertEqual(support.refused(webs.border_table, patch_web=BENT), ("NotWeb",))
+        self.assertEqual(support.refused(texts.read_order, text="3: 0<1,"), ("NotText", 7))
+        self.assertEqual(support.refused(texts.read_patch, text="3; 1; 1; 1"), ("NotPatch", "table", -1))
         self.assertEqual(module("moved").moved_map(way="back", along=ALONG, order=CROWN, led=(((3,),), ((3,),)),
                                                    other=DOWN, one=DOWN), (((3,),),) * 4)
 
